@@ -1,0 +1,1 @@
+"""Lateriver: streams that come late, asked exactly."""

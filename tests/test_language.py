@@ -1,0 +1,158 @@
+"""The interface stands where the document lists it, and the files keep what of LANGUAGE.md can be seen plainly."""
+
+import ast
+import builtins
+import pathlib
+import re
+import unittest
+
+PACKAGE = pathlib.Path(__file__).resolve().parent.parent / "lateriver"
+FILES = sorted(path for path in PACKAGE.rglob("*") if "__pycache__" not in path.parts)
+
+INTERFACE = {
+    "sources.py": {
+        "are_sources": ["thing"], "names_of": ["sources"], "fields_of": ["sources", "name"],
+        "rows_of": ["sources", "name"], "is_letter": ["sources", "thing"],
+    },
+    "terms.py": {
+        "is_reckoning": ["thing", "columns"], "is_condition": ["thing", "columns"],
+        "reckoned": ["A", "columns", "row"], "meets": ["C", "columns", "row"],
+        "term_text": ["thing"], "read_reckoning": ["text"], "read_condition": ["text"],
+    },
+}
+
+BUILTINS = set(
+    "len range enumerate zip min max sum abs sorted reversed int str bool bytes list tuple dict set frozenset "
+    "isinstance ord repr any all divmod pow getattr hasattr setattr iter next map Exception ValueError TypeError "
+    "KeyError IndexError LookupError ZeroDivisionError ArithmeticError OverflowError RuntimeError "
+    "NotImplementedError AttributeError StopIteration NotImplemented property staticmethod classmethod super".split()
+)
+LIBRARY = {
+    "heapq": "heappush heappop heapify heapreplace heappushpop", "math": "gcd lcm isqrt comb perm factorial",
+    "itertools": "product combinations permutations chain accumulate pairwise islice zip_longest",
+    "collections": "defaultdict", "__future__": "annotations",
+}
+NOWHERE = set("register mro elements open input law version_info with_traceback add_note".split())
+NO_NODES = (
+    ast.Global, ast.AsyncFunctionDef, ast.AsyncFor, ast.AsyncWith, ast.Await, ast.Div, ast.MatMult, ast.TryStar,
+    ast.Import,
+)
+BARRED = re.compile(
+    r"\b(type|typing|typing_extensions|enum|Enum|IntEnum|StrEnum|Flag|IntFlag|Generic|Protocol|ABC|ABCMeta|"
+    r"namedtuple|NamedTuple|TypedDict|TYPE_CHECKING|abstractmethod)\b|dataclass|overload|contextmanager"
+)
+
+
+def parsed():
+    return [(path, ast.parse(path.read_text(encoding="utf-8"))) for path in FILES if path.suffix == ".py"]
+
+
+def named_in(tree):
+    """All names that a file gives or reads, attributes' ones too."""
+    found = []
+    for node in ast.walk(tree):
+        for field in ("id", "attr", "arg", "name"):
+            word = getattr(node, field, None)
+            if isinstance(word, str):
+                found.append(word)
+    return found
+
+
+def bound_in(tree):
+    found = [node.id for node in ast.walk(tree) if isinstance(node, ast.Name) and not isinstance(node.ctx, ast.Load)]
+    found += [node.arg for node in ast.walk(tree) if isinstance(node, ast.arg)]
+    return found + [node.name for node in tree.body if isinstance(node, (ast.FunctionDef, ast.ClassDef))]
+
+
+class InterfaceTest(unittest.TestCase):
+    def test_functions_are_defined_in_their_files(self):
+        for file, functions in INTERFACE.items():
+            tree = ast.parse((PACKAGE / file).read_text(encoding="utf-8"))
+            there = {
+                node.name: [argument.arg for argument in node.args.args]
+                for node in tree.body if isinstance(node, ast.FunctionDef)
+            }
+            for name, arguments in functions.items():
+                self.assertEqual(there.get(name), arguments, name)
+
+
+class LanguageTest(unittest.TestCase):
+    def test_the_folder_holds_plain_files_alone(self):
+        self.assertTrue((PACKAGE / "__init__.py").is_file())
+        for path in FILES:
+            self.assertRegex(path.name, r"^[a-z0-9_]+\.py$")
+            self.assertTrue(path.is_file())
+
+    def test_sizes_and_signs(self):
+        for path, tree in parsed():
+            text = path.read_text(encoding="utf-8")
+            self.assertRegex(text, r"^[ -~\n]*$", path.name)
+            lines = text.split("\n")
+            self.assertLessEqual(len(lines), 399, path.name)
+            self.assertLessEqual(max(len(line) for line in lines), 120, path.name)
+            for node in ast.walk(tree):
+                if isinstance(node, ast.FunctionDef):
+                    self.assertLessEqual(node.end_lineno - node.lineno + 1, 40, node.name)
+
+    def test_imports(self):
+        for path, tree in parsed():
+            for node in ast.walk(tree):
+                if isinstance(node, ast.ImportFrom):
+                    self.assertEqual(node.level, 0)
+                    self.assertIn(node, tree.body)
+                    if not node.module.startswith("lateriver."):
+                        for alias in node.names:
+                            self.assertIn(alias.name, LIBRARY.get(node.module, "").split(), path.name)
+                            self.assertIsNone(alias.asname)
+
+    def test_no_two_files_import_from_each_other(self):
+        asked = {}
+        for path, tree in parsed():
+            asked["lateriver." + path.stem] = [node.module for node in tree.body if isinstance(node, ast.ImportFrom)]
+        while asked:
+            free = [name for name, others in asked.items() if not any(other in asked for other in others)]
+            self.assertTrue(free, "these import from one another: " + " ".join(asked))
+            for name in free:
+                del asked[name]
+
+    def test_module_level(self):
+        plain = (ast.ImportFrom, ast.FunctionDef, ast.ClassDef, ast.Assign)
+        for path, tree in parsed():
+            for at, node in enumerate(tree.body):
+                docstring = at == 0 and isinstance(node, ast.Expr) and isinstance(node.value, ast.Constant)
+                self.assertTrue(docstring or isinstance(node, plain), f"{path.name} {node.lineno}")
+
+    def test_statements_and_values(self):
+        for path, tree in parsed():
+            for node in ast.walk(tree):
+                where = f"{path.name} {getattr(node, 'lineno', '')}"
+                self.assertNotIsInstance(node, NO_NODES, where)
+                if isinstance(node, ast.Constant):
+                    self.assertNotIsInstance(node.value, (float, complex), where)
+                    if isinstance(node.value, str):
+                        self.assertNotIn("%", node.value, where)
+
+    def test_names(self):
+        known = set(dir(builtins))
+        for path, tree in parsed():
+            bound = bound_in(tree)
+            self.assertFalse(known & set(bound), path.name)
+            self.assertFalse(NOWHERE & set(named_in(tree)), path.name)
+            read = {node.id for node in ast.walk(tree) if isinstance(node, ast.Name)}
+            self.assertFalse((read & known) - BUILTINS, path.name)
+            for name in read | set(bound):
+                self.assertFalse(name.startswith("__"), name)
+
+    def test_barred_words(self):
+        for path, tree in parsed():
+            words = named_in(tree)
+            docs = [
+                ast.get_docstring(node, clean=False) for node in ast.walk(tree)
+                if isinstance(node, (ast.Module, ast.FunctionDef, ast.ClassDef))
+            ]
+            words += [
+                node.value for node in ast.walk(tree)
+                if isinstance(node, ast.Constant) and isinstance(node.value, str) and node.value not in docs
+            ]
+            for word in words:
+                self.assertIsNone(BARRED.search(word), f"{path.name}: {word}")
