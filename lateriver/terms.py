@@ -6,9 +6,8 @@ that was handed in keeps its own list of what is yet to do and does not call its
 
 from lateriver.errors import NoTerm, NoText
 from lateriver.names import LETTERS, is_name, is_whole
+from lateriver.texts import past, run_at, whole_at
 
-FIGURES = "0123456789"
-MOST_FIGURES = 12
 MOST_WITHIN = 40
 FOLD_COLUMNS = ("begin", "behind", "many")
 
@@ -44,14 +43,14 @@ def reckoned(A, columns, row):
     """The number that a reckoning gives of a row."""
     if not is_reckoning(A, columns):
         raise NoTerm("this is no reckoning on these columns")
-    return _worth_of(A, columns, row)
+    return worth_of(A, columns, row)
 
 
 def meets(C, columns, row):
     """Whether a row meets a condition."""
     if not is_condition(C, columns):
         raise NoTerm("this is no condition on these columns")
-    return _worth_of(C, columns, row)
+    return worth_of(C, columns, row)
 
 
 def term_text(thing):
@@ -87,18 +86,40 @@ def term_at(text, at, deep):
         raise NoText("too many terms stand within one another")
     if text.startswith("(", at):
         return _infix_at(text, at, deep)
-    word = _run_at(text, at, LETTERS)
+    word = run_at(text, at, LETTERS)
     behind = at + len(word)
     if word in CALLS:
         return _call_at(text, at, word, deep)
     if word == "not":
-        part, behind = term_at(text, _behind(text, behind, " "), deep - 1)
+        part, behind = term_at(text, past(text, behind, " "), deep - 1)
         return _of_right_kinds(("not", part)), behind
     if word == "yes":
         return ("yes",), behind
     if is_name(word) or word in FOLD_COLUMNS:
         return ("column", word), behind
-    return _number_at(text, at)
+    number, behind = whole_at(text, at)
+    return ("number", number), behind
+
+
+def worth_of(term, columns, row):
+    """The number, or the truth, that a term on these columns gives of a row."""
+    numbers = dict(zip(columns, row))
+    worths = []
+    # Behind all terms that stand in it, so that their worths are there, the last one's on top.
+    for part in reversed(_terms_within(term)):
+        word = part[0]
+        if word == "column":
+            worths.append(numbers[part[1]])
+        elif word == "number":
+            worths.append(part[1])
+        elif word == "yes":
+            worths.append(True)
+        elif word == "not":
+            worths.append(not worths.pop())
+        else:
+            other = worths.pop()
+            worths.append(_put_together(word, worths.pop(), other))
+    return worths[0]
 
 
 def _is_term(thing, kind, columns):
@@ -123,27 +144,6 @@ def _is_headed(thing, kind, columns):
     if word == "number":
         return len(thing) == 2 and is_whole(thing[1])
     return len(thing) == len(KINDS_WITHIN[word]) + 1
-
-
-def _worth_of(term, columns, row):
-    """The number, or the truth, that a term gives of a row."""
-    numbers = dict(zip(columns, row))
-    worths = []
-    # Behind all terms that stand in it, so that their worths are there, the last one's on top.
-    for part in reversed(_terms_within(term)):
-        word = part[0]
-        if word == "column":
-            worths.append(numbers[part[1]])
-        elif word == "number":
-            worths.append(part[1])
-        elif word == "yes":
-            worths.append(True)
-        elif word == "not":
-            worths.append(not worths.pop())
-        else:
-            other = worths.pop()
-            worths.append(_put_together(word, worths.pop(), other))
-    return worths[0]
 
 
 def _terms_within(term):
@@ -207,7 +207,7 @@ def _infix_at(text, at, deep):
     one, behind = term_at(text, at + 1, deep - 1)
     word = _infix_word_at(text, behind)
     other, behind = term_at(text, behind + len(INFIXES[word]), deep - 1)
-    return _of_right_kinds((word, one, other)), _behind(text, behind, ")")
+    return _of_right_kinds((word, one, other)), past(text, behind, ")")
 
 
 def _infix_word_at(text, at):
@@ -218,36 +218,9 @@ def _infix_word_at(text, at):
 
 
 def _call_at(text, at, word, deep):
-    one, behind = term_at(text, _behind(text, at, word + "("), deep - 1)
-    other, behind = term_at(text, _behind(text, behind, ", "), deep - 1)
-    return _of_right_kinds((word, one, other)), _behind(text, behind, ")")
-
-
-def _number_at(text, at):
-    sign = "-" if text.startswith("-", at) else ""
-    figures = _run_at(text, at + len(sign), FIGURES)
-    if not 1 <= len(figures) <= MOST_FIGURES:
-        raise NoText("no term stands here")
-    number = int(sign + figures)
-    # So neither noughts ahead nor -0 are read, which are never written.
-    if str(number) != sign + figures:
-        raise NoText("a number is written otherwise")
-    return ("number", number), at + len(sign + figures)
-
-
-def _run_at(text, at, signs):
-    """The longest part of the text from a place on that is of these signs alone."""
-    behind = at
-    while behind < len(text) and text[behind] in signs:
-        behind += 1
-    return text[at:behind]
-
-
-def _behind(text, at, sign):
-    """The place behind a sign that must stand at a place."""
-    if not text.startswith(sign, at):
-        raise NoText("a sign is missing")
-    return at + len(sign)
+    one, behind = term_at(text, past(text, at, word + "("), deep - 1)
+    other, behind = term_at(text, past(text, behind, ", "), deep - 1)
+    return _of_right_kinds((word, one, other)), past(text, behind, ")")
 
 
 def _of_right_kinds(term):

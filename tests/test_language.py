@@ -9,6 +9,7 @@ import unittest
 PACKAGE = pathlib.Path(__file__).resolve().parent.parent / "lateriver"
 FILES = sorted(path for path in PACKAGE.rglob("*") if "__pycache__" not in path.parts)
 
+# Of each file its functions, and its classes with their methods, and what each takes.
 INTERFACE = {
     "sources.py": {
         "are_sources": ["thing"], "names_of": ["sources"], "fields_of": ["sources", "name"],
@@ -19,7 +20,26 @@ INTERFACE = {
         "reckoned": ["A", "columns", "row"], "meets": ["C", "columns", "row"],
         "term_text": ["thing"], "read_reckoning": ["text"], "read_condition": ["text"],
     },
+    "questions.py": {
+        "Question": {
+            "__init__": ["sources", "tree"], "tree": [], "sources": [], "columns": [], "is_flat": [], "terms": [],
+            "source_names": [],
+        },
+        "question_text": ["tree"], "read_question": ["sources", "text"],
+    },
+    "bags.py": {
+        "bag_of": ["pairs"], "added": ["one", "other"], "less": ["one", "other"], "changes_of": ["bag"],
+        "summed": ["changes"],
+    },
+    "plain.py": {"answer_of": ["question", "letters"], "spot_of": ["question", "letters", "where"]},
+    "rivers.py": {
+        "River": {
+            "__init__": ["sources"], "take": ["happening"], "standing": [], "late": [], "mark": ["name"],
+            "is_open": ["letter"], "sources": [], "twin": [], "happened": [],
+        },
+    },
 }
+ERRORS = "NoSource NoRow NoTerm NoQuestion NoText NoLetter NoMark NoSpot NoRule NoKey NoAsk".split()
 
 BUILTINS = set(
     "len range enumerate zip min max sum abs sorted reversed int str bool bytes list tuple dict set frozenset "
@@ -64,16 +84,28 @@ def bound_in(tree):
     return found + [node.name for node in tree.body if isinstance(node, (ast.FunctionDef, ast.ClassDef))]
 
 
+def taken_by(function):
+    return [argument.arg for argument in function.args.args]
+
+
 class InterfaceTest(unittest.TestCase):
-    def test_functions_are_defined_in_their_files(self):
-        for file, functions in INTERFACE.items():
+    def test_what_is_listed_is_defined_in_its_file(self):
+        for file, listed in INTERFACE.items():
             tree = ast.parse((PACKAGE / file).read_text(encoding="utf-8"))
-            there = {
-                node.name: [argument.arg for argument in node.args.args]
-                for node in tree.body if isinstance(node, ast.FunctionDef)
-            }
-            for name, arguments in functions.items():
-                self.assertEqual(there.get(name), arguments, name)
+            there = {node.name: node for node in tree.body if isinstance(node, (ast.FunctionDef, ast.ClassDef))}
+            for name, taken in listed.items():
+                self.assertIn(name, there, file)
+                if isinstance(taken, list):
+                    self.assertEqual(taken_by(there[name]), taken, name)
+                    continue
+                methods = {node.name: node for node in there[name].body if isinstance(node, ast.FunctionDef)}
+                for method, arguments in taken.items():
+                    self.assertEqual(taken_by(methods[method]), ["self", *arguments], f"{name}.{method}")
+
+    def test_errors_are_defined_in_their_file(self):
+        tree = ast.parse((PACKAGE / "errors.py").read_text(encoding="utf-8"))
+        there = {node.name: [base.id for base in node.bases] for node in tree.body if isinstance(node, ast.ClassDef)}
+        self.assertEqual(there, {"RiverError": ["ValueError"], **{name: ["RiverError"] for name in ERRORS}})
 
 
 class LanguageTest(unittest.TestCase):

@@ -1,0 +1,34 @@
+"""Reading what was written just so, place by place in a text."""
+
+from lateriver.errors import NoText
+
+FIGURES = "0123456789"
+MOST_FIGURES = 12
+
+
+def run_at(text, at, signs):
+    """The longest part of the text from a place on that is of these signs alone."""
+    behind = at
+    while behind < len(text) and text[behind] in signs:
+        behind += 1
+    return text[at:behind]
+
+
+def past(text, at, piece):
+    """The place behind a piece that must stand at a place."""
+    if not text.startswith(piece, at):
+        raise NoText("what must stand here is missing")
+    return at + len(piece)
+
+
+def whole_at(text, at):
+    """The whole number that is written at a place, and the place behind it."""
+    sign = "-" if text.startswith("-", at) else ""
+    figures = run_at(text, at + len(sign), FIGURES)
+    if not 1 <= len(figures) <= MOST_FIGURES:
+        raise NoText("no number stands here")
+    number = int(sign + figures)
+    # So neither noughts ahead nor -0 are read, which are never written.
+    if str(number) != sign + figures:
+        raise NoText("a number is written otherwise")
+    return number, at + len(sign + figures)
