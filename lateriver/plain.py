@@ -94,7 +94,7 @@ def _joined(term, columns, bags):
     places, others_places = pair_places(term[3], columns)
     partners = _by_numbers(others_places, bags[1])
     for (moment, row), count in bags[0].items():
-        for other_moment, other_row, other_count in partners.get(_numbers_at(places, row), []):
+        for other_moment, other_row, other_count in partners.get(numbers_at(places, row), []):
             if term[4] <= other_moment - moment <= term[5]:
                 joined.append((max(moment, other_moment), row + other_row, count * other_count))
     return summed(joined)
@@ -105,7 +105,7 @@ def _left_alone(term, columns, bags):
     partners = _by_numbers(others_places, bags[1])
     alone = {}
     for (moment, row), count in bags[0].items():
-        apart = [other - moment for other, _, _ in partners.get(_numbers_at(places, row), [])]
+        apart = [other - moment for other, _, _ in partners.get(numbers_at(places, row), [])]
         if not any([term[4] <= far <= term[5] for far in apart]):
             alone[(moment, row)] = count
     return alone
@@ -116,7 +116,7 @@ def pair_places(pairs, columns):
     return [columns[0].index(one) for one, _ in pairs], [columns[1].index(other) for _, other in pairs]
 
 
-def _numbers_at(places, row):
+def numbers_at(places, row):
     return tuple([row[place] for place in places])
 
 
@@ -124,7 +124,7 @@ def _by_numbers(places, bag):
     """What is in a bag, as (moment, row, count), by the numbers at these places of the rows."""
     found = {}
     for (moment, row), count in bag.items():
-        found.setdefault(_numbers_at(places, row), []).append((moment, row, count))
+        found.setdefault(numbers_at(places, row), []).append((moment, row, count))
     return found
 
 

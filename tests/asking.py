@@ -4,6 +4,7 @@ The slow reading goes by the words of the document: each letter stands there as 
 tells, and each term is a list of (moment, row), with as many like ones as there are.
 """
 
+import itertools
 import operator
 import random
 
@@ -125,6 +126,53 @@ def slow_answer(sources, tree, letters):
     return bag
 
 
+def slow_rows(sources, tree):
+    """All rows that a flat term can tell, whatever the moments, with many like ones maybe."""
+    word = tree[0]
+    if word == "source":
+        return list(itertools.product(*[range(top + 1) for _, top in dict(sources)[tree[1]]]))
+    first = slow_rows(sources, tree[1])
+    named = [(row, dict(zip(slow_columns(sources, tree[1]), row))) for row in first]
+    if word == "keep":
+        return [row for row, numbers in named if slow_worth(tree[2], numbers)]
+    if word == "shape":
+        return [tuple(slow_worth(part, numbers) for _, part in tree[2]) for _, numbers in named]
+    if word == "both":
+        return first + slow_rows(sources, tree[2])
+    others = slow_columns(sources, tree[2])
+    return [
+        q + r for q, numbers in named for r in slow_rows(sources, tree[2])
+        if all(numbers[a] == dict(zip(others, r))[b] for a, b in tree[3])
+    ]
+
+
+def slow_ways(sources, tree, moment, row):
+    """The set of the ways, each a frozenset of letters, in which a flat term's spot can stand."""
+    word = tree[0]
+    if word == "source":
+        return {frozenset([(tree[1], moment, row)])} if row in slow_rows(sources, tree) else set()
+    if word == "both":
+        return slow_ways(sources, tree[1], moment, row) | slow_ways(sources, tree[2], moment, row)
+    columns = slow_columns(sources, tree[1])
+    if word == "keep":
+        return slow_ways(sources, tree[1], moment, row) if slow_worth(tree[2], dict(zip(columns, row))) else set()
+    if word == "shape":
+        made = [
+            q for q in set(slow_rows(sources, tree[1]))
+            if tuple(slow_worth(part, dict(zip(columns, q))) for _, part in tree[2]) == row
+        ]
+        return {way for q in made for way in slow_ways(sources, tree[1], moment, q)}
+    q, r = row[:len(columns)], row[len(columns):]
+    mine, others = dict(zip(columns, q)), dict(zip(slow_columns(sources, tree[2]), r))
+    if any(mine[a] != others[b] for a, b in tree[3]):
+        return set()
+    return {
+        one | other for m in range(moment + 1) for n in range(moment + 1)
+        if max(m, n) == moment and tree[4] <= n - m <= tree[5]
+        for one in slow_ways(sources, tree[1], m, q) for other in slow_ways(sources, tree[2], n, r)
+    }
+
+
 class Maker:
     """What makes questions, letters and happenings, the same ones of the same number."""
 
@@ -180,6 +228,13 @@ class Maker:
             return self.both(self.flat(deep - 1, joins), joins)
         part = self.flat(deep - 1, joins - 1)
         return ("join", part) + self.partners(part, self.shape(self.flat(deep - 2, joins - 1)))
+
+    def big_flat(self, deep):
+        """A flat tree of the most terms within one another that a question may have."""
+        while True:
+            tree = self.flat(deep)
+            if many_terms(tree) <= 12 and deepest(tree) <= 6:
+                return tree
 
     def both(self, part, joins):
         """A both of the tree and one that tells like columns of another one, by a shape."""

@@ -38,6 +38,17 @@ INTERFACE = {
             "is_open": ["letter"], "sources": [], "twin": [], "happened": [],
         },
     },
+    "deltas.py": {
+        "delta": ["question", "letters", "letter", "count"], "touched": ["question", "letters", "letter"],
+    },
+    "mills.py": {
+        "Mill": {
+            "__init__": ["sources", "questions"], "take": ["happening"], "answers": [], "river": [], "looked": [],
+        },
+    },
+    "finals.py": {
+        "ways_of": ["question", "where"], "settled": ["question", "river", "where"], "open_spots": ["question", "river"],
+    },
 }
 ERRORS = "NoSource NoRow NoTerm NoQuestion NoText NoLetter NoMark NoSpot NoRule NoKey NoAsk".split()
 
@@ -52,6 +63,11 @@ LIBRARY = {
     "itertools": "product combinations permutations chain accumulate pairwise islice zip_longest",
     "collections": "defaultdict", "__future__": "annotations",
 }
+METHODS = set(
+    "append clear copy count endswith extend find get index insert isalnum isalpha isdigit islower isspace isupper "
+    "items join keys ljust lower lstrip partition pop remove replace reverse rfind rjust rpartition rsplit rstrip "
+    "setdefault split splitlines startswith strip update upper values zfill bit_length add discard".split()
+)
 NOWHERE = set("register mro elements open input law version_info with_traceback add_note".split())
 NO_NODES = (
     ast.Global, ast.AsyncFunctionDef, ast.AsyncFor, ast.AsyncWith, ast.Await, ast.Div, ast.MatMult, ast.TryStar,
@@ -174,6 +190,44 @@ class LanguageTest(unittest.TestCase):
             self.assertFalse((read & known) - BUILTINS, path.name)
             for name in read | set(bound):
                 self.assertFalse(name.startswith("__"), name)
+
+    def test_no_local_name_is_that_of_a_class_or_an_import_of_its_file(self):
+        for path, tree in parsed():
+            taken = {node.name for node in tree.body if isinstance(node, ast.ClassDef)}
+            taken |= {alias.name for node in tree.body if isinstance(node, ast.ImportFrom) for alias in node.names}
+            inside = {
+                node.id for function in ast.walk(tree) if isinstance(function, ast.FunctionDef)
+                for node in ast.walk(function) if isinstance(node, ast.Name) and isinstance(node.ctx, ast.Store)
+            }
+            inside |= {node.arg for node in ast.walk(tree) if isinstance(node, ast.arg)}
+            self.assertFalse(taken & inside, path.name)
+
+    def test_methods_and_attributes(self):
+        own, assigned = set(), set()
+        for _, tree in parsed():
+            for node in ast.walk(tree):
+                if isinstance(node, ast.ClassDef):
+                    methods = {part.name for part in node.body if isinstance(part, ast.FunctionDef)}
+                    stored = {
+                        part.attr for part in ast.walk(node)
+                        if isinstance(part, ast.Attribute) and isinstance(part.ctx, ast.Store)
+                    }
+                    self.assertFalse(methods & stored, node.name)
+                    own |= methods
+                    assigned |= stored
+        for path, tree in parsed():
+            called = {
+                node.func.attr for node in ast.walk(tree)
+                if isinstance(node, ast.Call) and isinstance(node.func, ast.Attribute)
+            }
+            self.assertFalse(called - METHODS - own, path.name)
+            read = {node.attr for node in ast.walk(tree) if isinstance(node, ast.Attribute)}
+            self.assertFalse(read - METHODS - own - assigned, path.name)
+
+    def test_no_generators(self):
+        for path, tree in parsed():
+            for node in ast.walk(tree):
+                self.assertNotIsInstance(node, (ast.GeneratorExp, ast.Yield, ast.YieldFrom, ast.Lambda), path.name)
 
     def test_barred_words(self):
         for path, tree in parsed():

@@ -1,0 +1,144 @@
+"""What can come to stand at the spots of a flat term, by ranges, conditions and like numbers, and by a river."""
+
+from lateriver.plain import numbers_at, pair_places
+from lateriver.sources import rows_of
+from lateriver.terms import worth_of
+from lateriver.trees import columns_of, parts_of, sources_asked
+
+
+class Flat:
+    """A flat term: the rows that it can tell, and the rows of the terms in it that make each."""
+
+    def __init__(self, sources, tree):
+        self.term = tree
+        self.names = sources_asked(tree)
+        self.parts = [Flat(sources, part) for part in parts_of(tree)]
+        self.makers = _makers_of(sources, tree, self.parts)
+
+    def rows_with(self, places, numbers):
+        """The rows that it can tell, with these numbers at these places."""
+        return [row for row in self.makers if numbers_at(places, row) == numbers]
+
+    def made_of(self, moment, row):
+        """The lists of spots, as (number of the part, moment, row), that can make a spot."""
+        makers = self.makers.get(row, [])
+        if self.term[0] != "join":
+            return [[(number, moment, part_row) for number, part_row in maker] for maker in makers]
+        apart = _moments_joined(moment, self.term[4], self.term[5])
+        return [[(0, one, maker[0][1]), (1, other, maker[1][1])] for maker in makers for one, other in apart]
+
+
+class Outlook:
+    """What may yet stand at a flat term's spots, by what is open in a river and by a dict of what stands.
+
+    A choice at a spot is the rising tuple of the open letters of a way in which the spot can stand,
+    where all closed letters of that way stand. Of choices that are alike to whatever the term stands
+    in just one is told, of those that lack the fewest letters. Alike are choices that both have
+    letters, or both have none, and that lack the same letters of the sources apart. Where these are
+    None, choices are told for whether there are any, and may lack more letters than others.
+    """
+
+    def __init__(self, flat, river, standing, apart):
+        self.flat = flat
+        self._river = river
+        self._standing = standing
+        self._apart = apart
+        self._parts = [
+            Outlook(part, river, standing, _apart_within(flat, number, apart)) for number, part in enumerate(flat.parts)
+        ]
+        self._known = {}
+
+    def choices(self, moment, row):
+        """The choices at a spot, none where it can never stand."""
+        if (moment, row) not in self._known:
+            self._known[(moment, row)] = self._unlike(self._choices_at(moment, row))
+        return list(self._known[(moment, row)])
+
+    def lacked(self, choice):
+        """The letters of a choice that don't stand."""
+        return [letter for letter in choice if letter not in self._standing]
+
+    def _choices_at(self, moment, row):
+        if self.flat.term[0] == "source":
+            return self._choices_of_letter((self.flat.term[1], moment, row))
+        found = []
+        for spots in self.flat.made_of(moment, row):
+            together = [()]
+            for number, part_moment, part_row in spots:
+                beside = self._parts[number].choices(part_moment, part_row)
+                together = [_put_together(one, other) for one in together for other in beside]
+            found.extend(together)
+        return found
+
+    def _choices_of_letter(self, letter):
+        if letter[2] not in self.flat.makers:
+            return []
+        if self._river.is_open(letter):
+            return [(letter,)]
+        return [()] if letter in self._standing else []
+
+    def _unlike(self, choices):
+        found = {}
+        for choice in choices:
+            lacked = self.lacked(choice)
+            apart = [letter for letter in lacked if letter[0] in self._apart] if self._apart is not None else []
+            key = (len(choice) > 0, tuple(apart))
+            if key not in found or (len(lacked), choice) < found[key]:
+                found[key] = (len(lacked), choice)
+        return [choice for _, choice in found.values()]
+
+
+def _apart_within(flat, number, apart):
+    """The sources apart in the part of that number: what a join puts it together with may have letters in common."""
+    if apart is None or flat.term[0] != "join":
+        return apart
+    return apart + flat.parts[1 - number].names
+
+
+def _put_together(one, other):
+    """The rising tuple of the unlike letters of two choices."""
+    if len(one) == 0:
+        return other
+    return tuple(sorted(set(one + other)))
+
+
+def _makers_of(sources, tree, parts):
+    """By each row that a term can tell the lists of (number of a part, row) that make it."""
+    if tree[0] == "source":
+        return {row: [[]] for row in rows_of(sources, tree[1])}
+    columns = [columns_of(sources, part) for part in parts_of(tree)]
+    if tree[0] == "join":
+        return _makers_of_join(tree, columns, parts)
+    found = {}
+    for number, part in enumerate(parts):
+        for row in part.makers:
+            for told in _rows_told(tree, columns[number], row):
+                found.setdefault(told, []).append([(number, row)])
+    return found
+
+
+def _rows_told(tree, columns, row):
+    """The row that a keep, a shape or a both tells of a row; none where a keep leaves it out."""
+    if tree[0] == "keep":
+        return [row] if worth_of(tree[2], columns, row) else []
+    if tree[0] == "shape":
+        return [tuple([worth_of(reckoning, columns, row) for _, reckoning in tree[2]])]
+    return [row]
+
+
+def _makers_of_join(tree, columns, parts):
+    places, others_places = pair_places(tree[3], columns)
+    partners = {}
+    for row in parts[1].makers:
+        partners.setdefault(numbers_at(others_places, row), []).append(row)
+    found = {}
+    for row in parts[0].makers:
+        for other in partners.get(numbers_at(places, row), []):
+            found[row + other] = [[(0, row), (1, other)]]
+    return found
+
+
+def _moments_joined(moment, low, high):
+    """The pairs of moments, the greater one the one told, of which the second less the first is from low to high."""
+    found = [(moment, other) for other in range(max(0, moment + low), min(moment, moment + high) + 1)]
+    return found + [(one, moment) for one in range(max(0, moment - high), min(moment - 1, moment - low) + 1)]
