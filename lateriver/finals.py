@@ -1,10 +1,9 @@
 """What is final, and what may yet change and by what: point 91 of the document."""
 
 from lateriver.errors import NoQuestion, NoSpot
-from lateriver.outlooks import Flat, Outlook
+from lateriver.outlooks import Flat, Outlook, all_ways
 from lateriver.plain import answer_of, begins_with, folded_rows, is_spot, numbers_at, pair_places, spot_of, told_of
 from lateriver.rivers import River
-from lateriver.sources import names_of
 from lateriver.trees import columns_of, parts_of, sources_asked
 
 
@@ -12,11 +11,9 @@ def ways_of(question, where):
     """The rising list of the unlike ways in which a flat question's spot can stand, by the ranges alone."""
     if not question.is_flat():
         raise NoQuestion("this question is not flat")
-    _refuse_no_spot(question, where)
+    refuse_no_spot(question, where)
     sources = question.sources()
-    # Where all is open and nothing stands, each way is a choice; all sources apart, no two are alike.
-    outlook = Outlook(Flat(sources, question.tree()), River(sources), {}, names_of(sources))
-    return sorted(outlook.choices(where[0], where[1]))
+    return all_ways(Flat(sources, question.tree()), River(sources), [where])
 
 
 def settled(question, river, where):
@@ -24,39 +21,63 @@ def settled(question, river, where):
     tree = question.tree()
     if not question.is_flat() and tree[0] not in ("alone", "fold"):
         raise NoQuestion("this question is neither flat nor an alone nor a fold")
-    _refuse_other_sources(question, river)
-    _refuse_no_spot(question, where)
+    refuse_other_sources(question, river)
+    refuse_no_spot(question, where)
     if tree[0] == "alone":
         row = _row_for_alone(question, river, where)
-    elif tree[0] != "fold":
-        row = _row_to_more(_outlook_of(question, river, tree), [where])
-    elif tree[3][0] == "visit":
+    elif tree[0] == "fold" and tree[3][0] == "visit":
         row = _row_for_visit(question, river, where)
     else:
-        outlook = _outlook_of(question, river, tree[1])
-        row = _row_to_more(outlook, _spots_in_window(question, outlook.flat, where))
+        outlook = Outlook(flat_of(question), river, river.standing(), [])
+        row = _row_to_more(outlook, spots_for(question, outlook.flat, where))
     return ("final",) if row is None else ("may", row)
 
 
 def open_spots(question, river):
     """The rising list of the spots of a fold of panes, or slides, that stand and aren't final."""
     tree = question.tree()
-    if tree[0] != "fold" or tree[3][0] == "visit":
+    if not is_fold_of_windows(question):
         raise NoQuestion("this question is no fold of panes or slides")
-    _refuse_other_sources(question, river)
+    refuse_other_sources(question, river)
     letters = river.standing()
-    flat = Flat(question.sources(), tree[1])
+    flat = flat_of(question)
     outlook = Outlook(flat, river, letters, None)
     stand = folded_rows(tree, answer_of(question, letters))
-    return sorted([where for where in stand if _may_have_more(outlook, _spots_in_window(question, flat, where))])
+    return sorted([where for where in stand if _may_have_more(outlook, spots_in_window(question, flat, where))])
 
 
-def _refuse_other_sources(question, river):
+def is_fold_of_windows(question):
+    """Whether a question is a fold of panes, or of slides."""
+    tree = question.tree()
+    return tree[0] == "fold" and tree[3][0] != "visit"
+
+
+def refuse_unlike_windows(question, river):
+    """NoQuestion of questions that are neither flat nor folds of panes or slides, and of other sources."""
+    if not question.is_flat() and not is_fold_of_windows(question):
+        raise NoQuestion("this question is neither flat nor a fold of panes or slides")
+    refuse_other_sources(question, river)
+
+
+def flat_of(question):
+    """The flat term of a flat question, or of the Q of an alone or a fold."""
+    tree = question.tree()
+    return Flat(question.sources(), tree if question.is_flat() else tree[1])
+
+
+def spots_for(question, flat, where):
+    """The spots of the flat term that count at a spot of a flat question, or of a fold of panes or slides."""
+    return spots_in_window(question, flat, where) if question.tree()[0] == "fold" else [where]
+
+
+def refuse_other_sources(question, river):
+    """NoQuestion where the sources aren't the river's."""
     if question.sources() != river.sources():
         raise NoQuestion("this question is of other sources than the river")
 
 
-def _refuse_no_spot(question, where):
+def refuse_no_spot(question, where):
+    """NoSpot where this is no spot of the question."""
     if not is_spot(question, where):
         raise NoSpot("this is no spot of the question")
 
@@ -89,7 +110,7 @@ def _may_have_more(outlook, spots):
     return False
 
 
-def _spots_in_window(question, flat, where):
+def spots_in_window(question, flat, where):
     """The spots of a fold's Q that count in the pane, or slide, of a spot; none where no window begins there."""
     _, _, keys, window, _ = question.tree()
     numbers, begin = where
@@ -148,7 +169,7 @@ def _row_to_unbarred(question, river, spots, bar):
     closed = {letter: count for letter, count in river.standing().items() if not river.is_open(letter)}
     if _is_barred(question.sources(), bar, closed):
         return None
-    flat = Flat(question.sources(), question.tree()[1])
+    flat = flat_of(question)
     outlook = Outlook(flat, river, closed, sources_asked(bar[0]))
     tried = set()
     for moment, row in spots:

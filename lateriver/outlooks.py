@@ -7,13 +7,18 @@ from lateriver.trees import columns_of, parts_of, sources_asked
 
 
 class Flat:
-    """A flat term: the rows that it can tell, and the rows of the terms in it that make each."""
+    """A flat term: the rows that it can tell, and the rows of the terms in it that make each.
+
+    Makers are, by each row that it can tell, the lists of (number of a part, row) that make it; users,
+    by each (number of a part, row), the pairs of a row that is made with it and the list that makes that.
+    """
 
     def __init__(self, sources, tree):
         self.term = tree
         self.names = sources_asked(tree)
         self.parts = [Flat(sources, part) for part in parts_of(tree)]
         self.makers = _makers_of(sources, tree, self.parts)
+        self.users = _users_of(self.makers)
 
     def rows_with(self, places, numbers):
         """The rows that it can tell, with these numbers at these places."""
@@ -28,23 +33,37 @@ class Flat:
         return [[(0, one, maker[0][1]), (1, other, maker[1][1])] for maker in makers for one, other in apart]
 
 
+class Just:
+    """What stands in a river's place for an outlook to which just these letters are open."""
+
+    def __init__(self, letters):
+        self._letters = letters
+
+    def is_open(self, letter):
+        """Whether the letter is one of these."""
+        return letter in self._letters
+
+
 class Outlook:
     """What may yet stand at a flat term's spots, by what is open in a river and by a dict of what stands.
 
     A choice at a spot is the rising tuple of the open letters of a way in which the spot can stand,
     where all closed letters of that way stand. Of choices that are alike to whatever the term stands
-    in just one is told, of those that lack the fewest letters. Alike are choices that both have
-    letters, or both have none, and that lack the same letters of the sources apart. Where these are
-    None, choices are told for whether there are any, and may lack more letters than others.
+    in just one is told, of those that lack the fewest letters, and of these the least ones. Alike are
+    choices that both have letters, or both have none, and that lack the same letters of the sources
+    apart. Where these are None, choices are told for whether there are any, and may lack more letters
+    than others. Where most is told, choices that lack more letters are left out.
     """
 
-    def __init__(self, flat, river, standing, apart):
+    def __init__(self, flat, river, standing, apart, most=None):
         self.flat = flat
         self._river = river
         self._standing = standing
         self._apart = apart
-        self._parts = [
-            Outlook(part, river, standing, _apart_within(flat, number, apart)) for number, part in enumerate(flat.parts)
+        self._most = most
+        self.parts = [
+            Outlook(part, river, standing, _apart_within(flat, number, apart), most)
+            for number, part in enumerate(flat.parts)
         ]
         self._known = {}
 
@@ -65,8 +84,8 @@ class Outlook:
         for spots in self.flat.made_of(moment, row):
             together = [()]
             for number, part_moment, part_row in spots:
-                beside = self._parts[number].choices(part_moment, part_row)
-                together = [_put_together(one, other) for one in together for other in beside]
+                beside = self.parts[number].choices(part_moment, part_row)
+                together = [put_together(one, other) for one in together for other in beside]
             found.extend(together)
         return found
 
@@ -81,11 +100,20 @@ class Outlook:
         found = {}
         for choice in choices:
             lacked = self.lacked(choice)
+            if self._most is not None and len(lacked) > self._most:
+                continue
             apart = [letter for letter in lacked if letter[0] in self._apart] if self._apart is not None else []
             key = (len(choice) > 0, tuple(apart))
-            if key not in found or (len(lacked), choice) < found[key]:
-                found[key] = (len(lacked), choice)
-        return [choice for _, choice in found.values()]
+            if key not in found or (len(lacked), lacked, choice) < found[key]:
+                found[key] = (len(lacked), lacked, choice)
+        return [choice for _, _, choice in found.values()]
+
+
+def all_ways(flat, river, spots):
+    """The rising list of the unlike ways, of letters alone that are open, in which one of the spots can stand."""
+    # Where nothing stands each way is a choice; all sources apart, no two are alike.
+    outlook = Outlook(flat, river, {}, flat.names)
+    return sorted({choice for moment, row in spots for choice in outlook.choices(moment, row)})
 
 
 def _apart_within(flat, number, apart):
@@ -95,7 +123,7 @@ def _apart_within(flat, number, apart):
     return apart + flat.parts[1 - number].names
 
 
-def _put_together(one, other):
+def put_together(one, other):
     """The rising tuple of the unlike letters of two choices."""
     if len(one) == 0:
         return other
@@ -114,6 +142,16 @@ def _makers_of(sources, tree, parts):
         for row in part.makers:
             for told in _rows_told(tree, columns[number], row):
                 found.setdefault(told, []).append([(number, row)])
+    return found
+
+
+def _users_of(makers):
+    """By each (number of a part, row) the pairs of a row that is made with it and the list that makes it."""
+    found = {}
+    for told, lists in makers.items():
+        for maker in lists:
+            for number, row in maker:
+                found.setdefault((number, row), []).append((told, maker))
     return found
 
 

@@ -49,16 +49,12 @@ class Question:
 
 def question_text(tree):
     """The text of a question's tree."""
-    written = []
-    pending = [tree]
-    while pending:
-        piece = pending.pop()
-        if isinstance(piece, str):
-            written.append(piece)
-        else:
-            # The piece that is written first is put last, to be taken first.
-            pending.extend(_pieces_of(piece)[::-1])
-    return "".join(written)
+    return "".join(_written(tree, None))
+
+
+def begun_text(tree, many):
+    """The first signs, so many or some more, of the text of a question's tree."""
+    return "".join(_written(tree, many))
 
 
 def read_question(sources, text):
@@ -74,6 +70,22 @@ def read_question(sources, text):
         return Question(sources, tree)
     except NoQuestion:
         raise NoText("this is the text of no question of these sources") from None
+
+
+def _written(tree, many):
+    """The texts that a tree's text is put together from, or the first of them with so many signs or some more."""
+    written = []
+    length = 0
+    pending = [tree]
+    while pending and (many is None or length < many):
+        piece = pending.pop()
+        if isinstance(piece, str):
+            written.append(piece)
+            length += len(piece)
+        else:
+            # The piece that is written first is put last, to be taken first.
+            pending.extend(_pieces_of(piece)[::-1])
+    return written
 
 
 def _pieces_of(tree):

@@ -106,7 +106,7 @@ def worth_of(term, columns, row):
     numbers = dict(zip(columns, row))
     worths = []
     # Behind all terms that stand in it, so that their worths are there, the last one's on top.
-    for part in reversed(_terms_within(term)):
+    for part in reversed(terms_within(term)):
         word = part[0]
         if word == "column":
             worths.append(numbers[part[1]])
@@ -146,7 +146,7 @@ def _is_headed(thing, kind, columns):
     return len(thing) == len(KINDS_WITHIN[word]) + 1
 
 
-def _terms_within(term):
+def terms_within(term):
     """The term and all terms in it, each ahead of those in it, a second one ahead of a first one."""
     found = []
     pending = [term]

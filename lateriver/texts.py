@@ -4,6 +4,7 @@ from lateriver.errors import NoText
 
 FIGURES = "0123456789"
 MOST_FIGURES = 12
+MOST_PLAIN_FIGURES = 6
 
 
 def run_at(text, at, signs):
@@ -32,3 +33,18 @@ def whole_at(text, at):
     if str(number) != sign + figures:
         raise NoText("a number is written otherwise")
     return number, at + len(sign + figures)
+
+
+def is_plain_number(word):
+    """Whether a text is a number of 1 to 6 figures without noughts ahead."""
+    if not 1 <= len(word) <= MOST_PLAIN_FIGURES or run_at(word, 0, FIGURES) != word:
+        return False
+    return word == "0" or not word.startswith("0")
+
+
+def plain_number_at(text, at):
+    """The number of 1 to 6 figures that is written at a place, and the place behind it."""
+    figures = run_at(text, at, FIGURES)
+    if not is_plain_number(figures):
+        raise NoText("no number stands here, or one that is written otherwise")
+    return int(figures), at + len(figures)

@@ -65,20 +65,39 @@ def is_flat_tree(tree):
 
 
 def is_tree(sources, thing, most, most_within):
-    """Whether a thing is a question's tree of these sources, of so many terms in all and within one another."""
+    """Whether a thing is a question's tree of these sources.
+
+    It may have so many terms in all and within one another, or any number where these are None.
+    """
     found = []
-    pending = [(thing, most_within)]
+    pending = [(thing, 1)]
     while pending:
         term, within = pending.pop()
-        if len(found) == most or within == 0 or not _is_headed(term):
+        if len(found) == most or (most_within is not None and within > most_within) or not _is_headed(term):
             return False
         found.append(term)
-        pending.extend([(part, within - 1) for part in parts_of(term)])
-    # What stands in a term is looked at ahead of it, so that its columns may be asked for.
+        pending.extend([(part, within + 1) for part in parts_of(term)[::-1]])
+    # What stands in a term is looked at ahead of it, Q's last; of each the columns are kept, and whether it is flat.
+    known = []
     for term in reversed(found):
-        if not _is_well_made(sources, term):
+        parts = [known.pop() for _ in parts_of(term)]
+        if not _is_well_made(sources, term, parts):
             return False
+        flat = term[0] not in NEVER_FLAT and all([part_flat for _, part_flat in parts])
+        known.append((columns_beyond(sources, term, [columns for columns, _ in parts]), flat))
     return True
+
+
+def columns_beyond(sources, term, columns):
+    """The columns that a term tells, by those of the terms that stand in it at once."""
+    word = term[0]
+    if word == "source":
+        return fields_of(sources, term[1])
+    if word == "shape":
+        return [name for name, _ in term[2]]
+    if word == "join":
+        return columns[0] + columns[1]
+    return fold_columns(term) if word == "fold" else columns[0]
 
 
 def _is_headed(thing):
@@ -88,14 +107,14 @@ def _is_headed(thing):
     return SIZES.get(thing[0]) == len(thing)
 
 
-def _is_well_made(sources, term):
-    """Whether a term is one, the terms in it being so."""
+def _is_well_made(sources, term, parts):
+    """Whether a term is one, the terms in it being so, whose columns are told, and whether they are flat."""
     word = term[0]
     if word == "source":
         return isinstance(term[1], str) and term[1] in names_of(sources)
-    if word in OF_FLAT_PARTS and not all([is_flat_tree(part) for part in parts_of(term)]):
+    if word in OF_FLAT_PARTS and not all([flat for _, flat in parts]):
         return False
-    columns = [columns_of(sources, part) for part in parts_of(term)]
+    columns = [told for told, _ in parts]
     if word == "keep":
         return is_condition(term[2], columns[0])
     if word == "shape":

@@ -49,6 +49,18 @@ INTERFACE = {
     "finals.py": {
         "ways_of": ["question", "where"], "settled": ["question", "river", "where"], "open_spots": ["question", "river"],
     },
+    "keeping.py": {
+        "asked_for": ["question", "river", "letter"], "kept_of": ["question", "river"], "lessened": ["question", "river"],
+    },
+    "papers.py": {
+        "shows": ["question", "letters", "paper"], "much_of": ["letters", "paper"],
+        "papers_of": ["question", "letters", "moment", "row"], "paper_text": ["paper"], "read_paper": ["text"],
+    },
+    "lacks.py": {
+        "lacking": ["question", "river", "where"], "falling": ["question", "river", "where"],
+        "freed": ["question", "river", "where"],
+    },
+    "rules.py": {"rule_names": [], "done_by": ["sources", "tree", "place", "rule"], "fitting": ["sources", "tree"]},
 }
 ERRORS = "NoSource NoRow NoTerm NoQuestion NoText NoLetter NoMark NoSpot NoRule NoKey NoAsk".split()
 
@@ -223,6 +235,12 @@ class LanguageTest(unittest.TestCase):
             self.assertFalse(called - METHODS - own, path.name)
             read = {node.attr for node in ast.walk(tree) if isinstance(node, ast.Attribute)}
             self.assertFalse(read - METHODS - own - assigned, path.name)
+
+    def test_names_of_classes_begin_with_a_letter(self):
+        for _, tree in parsed():
+            for node in ast.walk(tree):
+                if isinstance(node, ast.ClassDef):
+                    self.assertRegex(node.name, r"^[A-Z]")
 
     def test_no_generators(self):
         for path, tree in parsed():
