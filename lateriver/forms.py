@@ -64,11 +64,14 @@ def _gone_through(node, stage, steps):
         if rule is not None:
             _note(steps, place, 0, rule)
             way[-1] = made
+            if made.word == "both" and _is_in_both(way, place, 0):
+                # It is put in a row first, while nothing in it is in one: that takes the fewest steps.
+                _go_up(way, place, made)
         elif lower is not None:
             way.append(node.parts[lower])
             place.append(lower)
         else:
-            if stage == 2 and node.word == "both" and not _is_behind_both(way, place):
+            if stage == 2 and node.word == "both" and not _is_in_both(way, place, 1):
                 node = _sorted_boths(node, place, steps)
             node.gone_through = stage
             node = _go_up(way, place, node)
@@ -98,9 +101,9 @@ def _note(steps, place, behind, rule):
         steps.append((tuple(place) + (1,) * behind, rule))
 
 
-def _is_behind_both(way, place):
-    """Whether the last node on the way is the second part of a both."""
-    return len(way) > 1 and place[-1] == 1 and way[-2].word == "both"
+def _is_in_both(way, place, number):
+    """Whether the last node on the way is the part of that number of a both."""
+    return len(way) > 1 and place[-1] == number and way[-2].word == "both"
 
 
 def _go_up(way, place, node):

@@ -35,9 +35,9 @@ def whole_at(text, at):
     return number, at + len(sign + figures)
 
 
-def is_plain_number(word):
-    """Whether a text is a number of 1 to 6 figures without noughts ahead."""
-    if not 1 <= len(word) <= MOST_PLAIN_FIGURES or run_at(word, 0, FIGURES) != word:
+def is_number(word, most):
+    """Whether a text is a number of so many figures at most, without noughts ahead."""
+    if not 1 <= len(word) <= most or run_at(word, 0, FIGURES) != word:
         return False
     return word == "0" or not word.startswith("0")
 
@@ -45,6 +45,6 @@ def is_plain_number(word):
 def plain_number_at(text, at):
     """The number of 1 to 6 figures that is written at a place, and the place behind it."""
     figures = run_at(text, at, FIGURES)
-    if not is_plain_number(figures):
+    if not is_number(figures, MOST_PLAIN_FIGURES):
         raise NoText("no number stands here, or one that is written otherwise")
     return int(figures), at + len(figures)

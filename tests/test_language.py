@@ -60,6 +60,21 @@ INTERFACE = {
         "lacking": ["question", "river", "where"], "falling": ["question", "river", "where"],
         "freed": ["question", "river", "where"],
     },
+    "forms.py": {
+        "plain_form": ["sources", "tree"], "steps_of": ["sources", "tree"], "led_by": ["sources", "one", "other"],
+    },
+    "parting.py": {
+        "parted_by": ["question", "key"], "keys_of": ["question"],
+        "Parts": {"__init__": ["sources", "questions", "key"], "take": ["happening"], "answers": [], "part": ["number"]},
+    },
+    "logs.py": {
+        "Log": {
+            "__init__": ["sources", "questions"], "feed": ["number", "happening"], "fed": [], "told": ["number"],
+            "at": ["number"], "due": [], "seen": ["number"], "away": ["number"], "shrunk": [],
+        },
+        "log_text": ["log"], "begun_of": ["text"],
+    },
+    "desk.py": {"answered": ["text"]},
     "rules.py": {"rule_names": [], "done_by": ["sources", "tree", "place", "rule"], "fitting": ["sources", "tree"]},
 }
 ERRORS = "NoSource NoRow NoTerm NoQuestion NoText NoLetter NoMark NoSpot NoRule NoKey NoAsk".split()
