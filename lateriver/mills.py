@@ -2,7 +2,7 @@
 
 from lateriver.bags import changes_of, less
 from lateriver.errors import NoQuestion
-from lateriver.plain import letters_of, put_together
+from lateriver.plain import put_together
 from lateriver.questions import Question, question_text
 from lateriver.rivers import River
 from lateriver.trees import columns_of, parts_of, sources_asked
@@ -20,8 +20,9 @@ class Mill:
         self._terms = {}
         for question in questions:
             for tree in reversed(question.terms()):
-                self._terms[question_text(tree)] = tree
-        self._bags = {text: {} for text in self._terms}
+                text = question_text(tree)
+                if text not in self._terms:
+                    self._terms[text] = Term(sources, tree)
         self._looked = 0
 
     def take(self, happening):
@@ -29,12 +30,13 @@ class Mill:
         counted = self._river.take(happening)
         if not counted or happening[0] in ("mark", "end"):
             return [[] for _ in self._asked]
-        changed = self._look_at_terms_of(happening[1][0])
+        changed = self._look_at_terms_of(happening[1], 1 if happening[0] == "letter" else -1)
         return [changes_of(changed.get(text, {})) for text in self._asked]
 
     def answers(self):
         """The list of the questions' bags."""
-        return [{pair: self._bags[text][pair] for pair in self._bags[text]} for text in self._asked]
+        bags = [self._terms[text].bag for text in self._asked]
+        return [{pair: bag[pair] for pair in bag} for bag in bags]
 
     def river(self):
         """A twin of the mill's own river."""
@@ -44,25 +46,43 @@ class Mill:
         """How many terms were looked at in all."""
         return self._looked
 
-    def _look_at_terms_of(self, name):
-        """Bring the terms with a source in them up to date; the bags by which they change, by their texts."""
-        letters = self._river.standing()
+    def _look_at_terms_of(self, letter, count):
+        """Bring the terms with a letter's source in them up to date; the bags by which they change, by their texts."""
+        name, moment, row = letter
         changed = {}
-        for text, tree in self._terms.items():
-            if name in sources_asked(tree):
-                bag = self._told_now(tree, letters)
-                changed[text] = less(bag, self._bags[text])
-                self._bags[text] = bag
+        for text, term in self._terms.items():
+            if name in term.names:
+                if term.tree[0] == "source":
+                    changed[text] = term.count_more((moment, row), count)
+                else:
+                    changed[text] = term.tell_anew([self._terms[part].bag for part in term.parts])
                 self._looked += 1
         return changed
 
-    def _told_now(self, tree, letters):
-        """What a term tells now, what stands within it being up to date."""
-        if tree[0] == "source":
-            return letters_of(tree[1], letters)
-        parts = parts_of(tree)
-        columns = [columns_of(self._river.sources(), part) for part in parts]
-        return put_together(tree, columns, [self._bags[question_text(part)] for part in parts])
+
+class Term:
+    """A term of a mill's questions: what is asked of it again and again, and what it tells now."""
+
+    def __init__(self, sources, tree):
+        self.tree = tree
+        self.names = sources_asked(tree)
+        self.parts = [question_text(part) for part in parts_of(tree)]
+        self.bag = {}
+        self._columns = [columns_of(sources, part) for part in parts_of(tree)]
+
+    def count_more(self, pair, count):
+        """Count so many more of a pair, of a source; the bag by which it changes."""
+        self.bag[pair] = self.bag.get(pair, 0) + count
+        if self.bag[pair] == 0:
+            del self.bag[pair]
+        return {pair: count}
+
+    def tell_anew(self, bags):
+        """Tell anew what it makes of what the terms in it tell; the bag by which it changes."""
+        bag = put_together(self.tree, self._columns, bags)
+        changed = less(bag, self.bag)
+        self.bag = bag
+        return changed
 
 
 def are_questions(sources, thing):

@@ -5,8 +5,8 @@ from lateriver.errors import NoKey, NoLetter, NoQuestion
 from lateriver.mills import Mill
 from lateriver.mixing import letters_mixed, places_of
 from lateriver.names import is_whole
-from lateriver.rivers import is_happening
-from lateriver.sources import HIGHEST_TOP, fields_of, names_of
+from lateriver.rivers import is_happening_of
+from lateriver.sources import HIGHEST_TOP, fields_of, names_of, tops_of
 
 
 def parted_by(question, key):
@@ -39,12 +39,12 @@ class Parts:
         for question in questions:
             if letters_mixed(question, key) is not None:
                 raise NoKey("a question is not parted by this key")
-        self._sources = sources
+        self._tops = tops_of(sources)
         self._places = places_of(sources, key)
 
     def take(self, happening):
         """The list of each question's changes."""
-        if not is_happening(self._sources, happening):
+        if not is_happening_of(self._tops, happening):
             raise NoLetter("this is no happening of these sources")
         if happening[0] in ("letter", "back"):
             name, _, row = happening[1]

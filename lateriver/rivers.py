@@ -2,15 +2,16 @@
 
 from lateriver.errors import NoLetter, NoMark, NoSource
 from lateriver.names import is_whole
-from lateriver.sources import is_letter, names_of
+from lateriver.sources import is_letter_of, tops_of
 
 
 class River:
     """What stands behind a row of happenings, what came late, and what is closed."""
 
     def __init__(self, sources):
-        # Asking for the names refuses what are no sources.
-        self._marks = {name: 0 for name in names_of(sources)}
+        # Asking for the tops refuses what are no sources, and looks at them once for all happenings.
+        self._tops = tops_of(sources)
+        self._marks = {name: 0 for name in self._tops}
         self._sources = sources
         self._counts = {}
         self._late = []
@@ -18,7 +19,7 @@ class River:
 
     def take(self, happening):
         """True, or False of a letter that is late."""
-        if not is_happening(self._sources, happening):
+        if not is_happening_of(self._tops, happening):
             raise NoLetter("this is no happening of these sources")
         word = happening[0]
         counted = True
@@ -60,8 +61,10 @@ class River:
     def twin(self):
         """Another river alike, apart from this one."""
         other = River(self._sources)
-        for happening in self._happened:
-            other.take(happening)
+        other._marks = {name: self._marks[name] for name in self._marks}
+        other._counts = {letter: self._counts[letter] for letter in self._counts}
+        other._late = list(self._late)
+        other._happened = list(self._happened)
         return other
 
     def happened(self):
@@ -95,14 +98,19 @@ class River:
 
 def is_happening(sources, thing):
     """True of a happening of these sources, False of anything else."""
+    return is_happening_of(tops_of(sources), thing)
+
+
+def is_happening_of(tops, thing):
+    """True of a happening of the sources with these tops, False of anything else."""
     if not isinstance(thing, tuple) or len(thing) == 0 or not isinstance(thing[0], str):
         return False
     if thing[0] in ("letter", "back"):
-        return len(thing) == 2 and is_letter(sources, thing[1])
+        return len(thing) == 2 and is_letter_of(tops, thing[1])
     if thing[0] == "mark":
-        return len(thing) == 3 and _is_source(sources, thing[1]) and is_whole(thing[2]) and thing[2] >= 0
-    return thing[0] == "end" and len(thing) == 2 and _is_source(sources, thing[1])
+        return len(thing) == 3 and _is_name_in(tops, thing[1]) and is_whole(thing[2]) and thing[2] >= 0
+    return thing[0] == "end" and len(thing) == 2 and _is_name_in(tops, thing[1])
 
 
-def _is_source(sources, thing):
-    return isinstance(thing, str) and thing in names_of(sources)
+def _is_name_in(tops, thing):
+    return isinstance(thing, str) and thing in tops

@@ -36,13 +36,23 @@ def rows_of(sources, name):
 
 def is_letter(sources, thing):
     """True of a letter of one of the sources, False of anything else."""
-    names = names_of(sources)
+    return is_letter_of(tops_of(sources), thing)
+
+
+def tops_of(sources):
+    """By each source's name its columns' tops, in order: what is_letter_of asks of sources, looked at once."""
+    _refuse_no_sources(sources)
+    return {name: [top for _, top in columns] for name, columns in sources}
+
+
+def is_letter_of(tops, thing):
+    """True of a letter of one of the sources with these tops, False of anything else."""
     if not isinstance(thing, tuple) or len(thing) != 3:
         return False
     name, moment, row = thing
-    if not isinstance(name, str) or name not in names:
+    if not isinstance(name, str) or name not in tops:
         return False
-    return is_whole(moment) and moment >= 0 and _is_row(_columns_of(sources, name), row)
+    return is_whole(moment) and moment >= 0 and _is_row(tops[name], row)
 
 
 def _are_named_pairs(thing, most):
@@ -79,7 +89,7 @@ def _columns_of(sources, name):
     raise NoSource("this is no name of a source")
 
 
-def _is_row(columns, thing):
-    if not isinstance(thing, tuple) or len(thing) != len(columns):
+def _is_row(tops, thing):
+    if not isinstance(thing, tuple) or len(thing) != len(tops):
         return False
-    return all([_is_number_to(number, top) for number, (_, top) in zip(thing, columns)])
+    return all([_is_number_to(number, top) for number, top in zip(thing, tops)])
