@@ -52,7 +52,7 @@ class Mill:
         changed = {}
         for text, term in self._terms.items():
             if name in term.names:
-                if term.tree[0] == "source":
+                if term.term[0] == "source":
                     changed[text] = term.count_more((moment, row), count)
                 else:
                     changed[text] = term.tell_anew([self._terms[part].bag for part in term.parts])
@@ -64,7 +64,7 @@ class Term:
     """A term of a mill's questions: what is asked of it again and again, and what it tells now."""
 
     def __init__(self, sources, tree):
-        self.tree = tree
+        self.term = tree
         self.names = sources_asked(tree)
         self.parts = [question_text(part) for part in parts_of(tree)]
         self.bag = {}
@@ -79,7 +79,7 @@ class Term:
 
     def tell_anew(self, bags):
         """Tell anew what it makes of what the terms in it tell; the bag by which it changes."""
-        bag = put_together(self.tree, self._columns, bags)
+        bag = put_together(self.term, self._columns, bags)
         changed = less(bag, self.bag)
         self.bag = bag
         return changed

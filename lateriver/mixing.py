@@ -26,7 +26,7 @@ def letters_mixed(question, key):
     """
     tree = question.tree()
     if tree[0] == "alone":
-        return AloneParts(question, key).letters_mixed()
+        return AloneParts(question, key).some_letters()
     ways = _ways_by_part(flat_of(question), places_of(question.sources(), key))
     if tree[0] != "fold":
         mixed = [by_part[MIXED] for by_part in ways.values() if MIXED in by_part]
@@ -59,8 +59,9 @@ class AloneParts:
         # So late that no way of any row is cut off by moment 0.
         joins = [term for term in terms_of(self._tree) if term[0] in ("join", "alone")]
         self._moment = sum([abs(join[4]) + abs(join[5]) for join in joins])
+        self._known = {}
 
-    def letters_mixed(self):
+    def some_letters(self):
         """Letters, rising, that the alone answers otherwise than their parts in sum, None where there are none."""
         for row in self._flats[0].makers:
             for way in self._outlooks[0].choices(self._moment, row):
@@ -99,6 +100,11 @@ class AloneParts:
 
     def _is_barred(self, row, letters):
         """Whether a partner of a row stands where these letters do."""
+        if (row, letters) not in self._known:
+            self._known[(row, letters)] = self._look_for_partner(row, letters)
+        return self._known[(row, letters)]
+
+    def _look_for_partner(self, row, letters):
         numbers = numbers_at(self._pairs[0], row)
         for moment, other in told_of(self._sources, self._tree[2], {letter: 1 for letter in letters}):
             near = self._tree[4] <= moment - self._moment <= self._tree[5]

@@ -4,7 +4,7 @@ from lateriver.errors import NoText
 from lateriver.names import LETTERS, is_name, is_whole
 from lateriver.plain import folded_rows, letters_of, numbers_at, put_together, told_of
 from lateriver.sources import is_letter
-from lateriver.texts import past, plain_number_at, run_at
+from lateriver.texts import past, plain_number_at, run_at, text_of
 from lateriver.trees import columns_of, parts_of
 
 MOST_PAPERS_WITHIN = 6
@@ -40,16 +40,7 @@ def papers_of(question, letters, moment, row):
 
 def paper_text(paper):
     """The text of a paper."""
-    written = []
-    pending = [paper]
-    while pending:
-        piece = pending.pop()
-        if isinstance(piece, str):
-            written.append(piece)
-        else:
-            # The piece that is written first is put last, to be taken first.
-            pending.extend(_pieces_of(piece)[::-1])
-    return "".join(written)
+    return text_of(paper, _pieces_of)
 
 
 def read_paper(text):

@@ -4,7 +4,7 @@ from lateriver.errors import NoQuestion, NoSource, NoText
 from lateriver.names import LETTERS
 from lateriver.sources import are_sources
 from lateriver.terms import MOST_WITHIN, term_at, term_text
-from lateriver.texts import past, run_at, whole_at
+from lateriver.texts import past, run_at, text_of, whole_at
 from lateriver.trees import WINDOW_SIZES, columns_of, is_flat_tree, is_tree, sources_asked, terms_of
 
 MOST_TERMS = 12
@@ -49,12 +49,12 @@ class Question:
 
 def question_text(tree):
     """The text of a question's tree."""
-    return "".join(_written(tree, None))
+    return text_of(tree, _pieces_of)
 
 
 def begun_text(tree, many):
     """The first signs, so many or some more, of the text of a question's tree."""
-    return "".join(_written(tree, many))
+    return text_of(tree, _pieces_of, many)
 
 
 def read_question(sources, text):
@@ -70,22 +70,6 @@ def read_question(sources, text):
         return Question(sources, tree)
     except NoQuestion:
         raise NoText("this is the text of no question of these sources") from None
-
-
-def _written(tree, many):
-    """The texts that a tree's text is put together from, or the first of them with so many signs or some more."""
-    written = []
-    length = 0
-    pending = [tree]
-    while pending and (many is None or length < many):
-        piece = pending.pop()
-        if isinstance(piece, str):
-            written.append(piece)
-            length += len(piece)
-        else:
-            # The piece that is written first is put last, to be taken first.
-            pending.extend(_pieces_of(piece)[::-1])
-    return written
 
 
 def _pieces_of(tree):

@@ -6,7 +6,7 @@ that was handed in keeps its own list of what is yet to do and does not call its
 
 from lateriver.errors import NoTerm, NoText
 from lateriver.names import LETTERS, is_name, is_whole
-from lateriver.texts import past, run_at, whole_at
+from lateriver.texts import past, run_at, text_of, whole_at
 
 MOST_WITHIN = 40
 FOLD_COLUMNS = ("begin", "behind", "many")
@@ -55,16 +55,7 @@ def meets(C, columns, row):
 
 def term_text(thing):
     """The text of a reckoning or a condition."""
-    written = []
-    pending = [thing]
-    while pending:
-        piece = pending.pop()
-        if isinstance(piece, str):
-            written.append(piece)
-        else:
-            # The piece that is written first is put last, to be taken first.
-            pending.extend(_pieces_of(piece)[::-1])
-    return "".join(written)
+    return text_of(thing, _pieces_of)
 
 
 def read_reckoning(text):

@@ -1,10 +1,29 @@
-"""Reading what was written just so, place by place in a text."""
+"""Writing things within one another, however deep, and reading what was written just so, place by place in a text."""
 
 from lateriver.errors import NoText
 
 FIGURES = "0123456789"
 MOST_FIGURES = 12
 MOST_PLAIN_FIGURES = 6
+
+
+def text_of(thing, pieces_of, most=None):
+    """The text of a thing, or its first signs, most of them or some more.
+
+    By pieces_of a thing's text is put together, in order: of texts, and of things within it, yet to be written.
+    """
+    written = []
+    length = 0
+    pending = [thing]
+    while pending and (most is None or length < most):
+        piece = pending.pop()
+        if isinstance(piece, str):
+            written.append(piece)
+            length += len(piece)
+        else:
+            # The piece that is written first is put last, to be taken first.
+            pending.extend(pieces_of(piece)[::-1])
+    return "".join(written)
 
 
 def run_at(text, at, signs):

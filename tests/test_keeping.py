@@ -100,6 +100,10 @@ class FlatTest(KeepingCase):
         river = river_of(letter("wind", 0, 1), ("end", "wind"))
         self.asked(question(("join", RAIN, WIND, (), 0, 3)), river, ("wind", 0, (1,)))
         self.not_asked(question(("join", RAIN, WIND, (), 1, 3)), river, ("wind", 0, (1,)))
+        river = river_of(letter("rain", 0, 1, 1), letter("rain", 1, 1, 1), ("end", "rain"))
+        self.asked(question(("join", RAIN, WIND, (), 0, 0)), river, ("rain", 0, (1, 1)))
+        self.asked(question(("join", RAIN, WIND, (), -1, -1)), river, ("rain", 1, (1, 1)))
+        self.not_asked(question(("join", RAIN, WIND, (), -1, -1)), river, ("rain", 0, (1, 1)))
 
 
 class WindowTest(KeepingCase):
@@ -180,6 +184,10 @@ class KeptTest(KeepingCase):
         other.take(letter("wind", 7, 1))
         other.take(("end", "rain"))
         self.assertEqual(told_of(river), before)
+
+    def test_marks_of_lessened_rivers(self):
+        other = lessened(question(WIND), river_of(("mark", "rain", 1), ("mark", "snow", 1), ("end", "snow")))
+        self.assertEqual([other.mark(name) for name in ("rain", "wind", "snow")], [1, 0, None])
 
     def test_what_is_told_is_the_askers_own(self):
         river = river_of(letter("rain", 5, 1, 2), ("mark", "rain", 6))

@@ -189,6 +189,17 @@ class FreedTest(LacksCase):
         self.frees(tree, river_of(*both, ("end", "rain")), (5, (1,)), NEVER)
 
 
+    def test_the_least_of_what_keeps_the_row(self):
+        # By either letter the row stands, and either one brings a partner beside its wind.
+        partners = ("keep", ("join", RAIN, WIND, (), 0, 0), ("is", Y, ("sum", ("column", "z"), ("number", 2))))
+        tree = ("alone", ("shape", RAIN, (("a", X),)), partners, (("a", "x"),), 0, 0)
+        happenings = [letter("rain", 5, 1, 2), letter("rain", 5, 1, 3), letter("wind", 5, 0), letter("wind", 5, 1)]
+        self.frees(tree, river_of(*happenings), (5, (1,)), ("back", (A, ("wind", 5, (1,)))))
+        self.frees(tree, river_of(*happenings, *[happenings[0]] * 4), (5, (1,)), ("back", (("rain", 5, (1, 3)), ("wind", 5, (0,)))))
+        self.frees(tree, river_of(*happenings, *[happenings[1]] * 4), (5, (1,)), ("back", (A, ("wind", 5, (1,)))))
+        self.frees(tree, river_of(*happenings, *happenings[:2] * 4), (5, (1,)), ("back", (("wind", 5, (0,)), ("wind", 5, (1,)))))
+
+
 class ManyMadeTest(LacksCase):
     """Each spot is held against all ways, and all letters that may be taken back."""
 

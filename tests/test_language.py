@@ -190,6 +190,33 @@ class LanguageTest(unittest.TestCase):
             for name in free:
                 del asked[name]
 
+    def test_what_is_imported_is_defined_in_the_file_that_is_named(self):
+        defined = {}
+        for path, tree in parsed():
+            names = {node.name for node in tree.body if isinstance(node, (ast.FunctionDef, ast.ClassDef))}
+            names |= {target.id for node in tree.body if isinstance(node, ast.Assign) for target in node.targets}
+            defined["lateriver." + path.stem] = names
+        for path, tree in parsed():
+            used = {node.id for node in ast.walk(tree) if isinstance(node, ast.Name)}
+            for node in tree.body:
+                if isinstance(node, ast.ImportFrom) and node.module in defined:
+                    for alias in node.names:
+                        self.assertIn(alias.name, defined[node.module], path.name)
+                        self.assertIn(alias.name, used, path.name)
+
+    def test_lists_and_dicts_of_modules_are_only_read(self):
+        for path, tree in parsed():
+            kept = {
+                target.id for node in tree.body if isinstance(node, ast.Assign) and isinstance(node.value, (ast.List, ast.Dict))
+                for target in node.targets
+            }
+            for node in ast.walk(tree):
+                if isinstance(node, ast.Call) and not (isinstance(node.func, ast.Name) and node.func.id in ("sorted", "list", "dict", "len")):
+                    given = [part.id for part in node.args if isinstance(part, ast.Name)]
+                    self.assertFalse(kept & set(given), f"{path.name} {node.lineno}")
+                if isinstance(node, (ast.Return, ast.Assign)) and isinstance(node.value, ast.Name):
+                    self.assertNotIn(node.value.id, kept, f"{path.name} {node.lineno}")
+
     def test_module_level(self):
         plain = (ast.ImportFrom, ast.FunctionDef, ast.ClassDef, ast.Assign)
         for path, tree in parsed():

@@ -53,6 +53,7 @@ NO_TEXTS = [
     "source a x 1\nend a\nmark a 5\nseen 1\n", "source a x 1\nmark a\nseen 0\n", "source a x 1\nmark a 5 5\nseen 0\n", "source a x 1\nletter a 5 -1\nseen 0\n",
     "source a x 1\nletter a 05 1\nseen 0\n", "source a x 1\nlog a 5\nseen 0\n", "source a x 1\nseen 0\nletter a 5 1\n", "source a x 1\r\nseen 0\r\n",
     "source a x 1\nletter a " + "9" * 5000 + " 1\nseen 0\n", "source a x 1\nmark a\t5\nseen 0\n", "letter a 5 1\nseen 0\n",
+    "source a x 1", "source a x 1\nask a", "source a x 1\nask a\nletter a 5 1", "seen 0", " ", "source", "ask",
     "source a x 1\nletter a \u0665 1\nseen 0\n", "source a x 1\nletter a \u00b2 1\nseen 0\n", "source a x 1\nask keep yes of (a)\nseen 0\n",
 ]
 
@@ -329,6 +330,8 @@ class ShrunkTest(LogCase):
             self.assertEqual(other.feed(number, happening), log.feed(number, happening))
             self.assertEqual(other.told(number), log.told(number))
             self.assertEqual(other.due(), log.due())
+            self.assertEqual(other.feed(number, happening), log.told(number))
+            self.refused_unchanged(NoAsk, other, other.feed, number, ("end", "rain"))
         self.assertEqual(other.away(10), log.away(10))
         self.refused_unchanged(NoAsk, other, other.away, 12)
         self.assertIsNone(other.seen(11))

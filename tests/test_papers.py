@@ -135,6 +135,11 @@ class ShowsTest(PaperCase):
             ("folded", 5, (PA, None)), ("folded", 5, (deep_tuple(PA), PB)), ("folded", (PA, PB), 5), PA,
         )
 
+    def test_one_paper_twice_for_two(self):
+        tree, letters = ("fold", RAIN, (), ("pane", 5), ()), {A: 1, B: 1}
+        self.shown(tree, ("folded", 5, (PA, PB)), (9, (5, 10, 2)), 1, letters)
+        self.shows_nothing(tree, ("folded", 5, (PA, PA)), ("folded", 5, (PB, PB)), ("folded", 5, (PB, PA)), letters=letters)
+
     def test_folded_slides(self):
         tree = ("fold", RAIN, (), ("slide", 4, 2), ())
         self.shown(tree, ("folded", 4, (PA, PB, PC)), (7, (4, 8, 6)), 1)

@@ -106,6 +106,22 @@ class PartedTest(RefusalCase):
         self.parted(("alone", RAIN, shaped, (("x", "a"),), 0, 0), ("x", "z", "x"))
         self.parted(("alone", RAIN, ("shape", mixed, (("a", X),)), (("x", "a"),), 0, 0))
 
+    def test_rows_that_have_no_partner_at_some_moments_alone(self):
+        joined = ("join", RAIN, WIND, (), -3, 0)
+        near = ("shape", ("join", RAIN, WIND, (), 0, 0), (("a", X),))
+        self.parted(("alone", joined, near, (), 0, 0))
+        self.parted(("alone", ("join", RAIN, WIND, (), 0, 0), near, (), 0, 0), *KEYS)
+        self.parted(("alone", joined, ("keep", SNOW, ("not", ("yes",))), (), 0, 0))
+
+    def test_partners_at_some_moments_alone(self):
+        # Of what brings a partner the snow, which is of the row's own part, bars it but where it is too early.
+        mixed = ("shape", ("join", SNOW, WIND, (), 3, 3), (("a", X),))
+        other = ("both", mixed, ("shape", SNOW, (("a", X),)))
+        self.parted(("alone", RAIN, other, (("x", "a"),), 0, 3))
+        self.parted(("alone", RAIN, other, (("x", "a"),), 3, 6))
+        self.parted(("alone", RAIN, ("both", ("shape", ("join", SNOW, WIND, (), 0, 0), (("a", X),)), other[2]), (("x", "a"),), 0, 3),
+                    ("x", "z", "x"))
+
     def test_many_made_ones(self):
         counts = {}
         for number in range(450):

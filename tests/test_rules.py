@@ -213,6 +213,18 @@ class RuleTest(RefusalCase):
         told = [rule for _, rule in fitting(SOURCES, ("both", one, longer))]
         self.assertEqual("turn" in told, texts[0] == question_text(longer))
 
+    def test_trees_that_part_late(self):
+        ones = [RAIN, RAIN]
+        for _ in range(60):
+            ones = [keep(one, C) for one in ones]
+        others = [keep(RAIN, ("is", X, number)) for number in (ONE, TWO)]
+        for _ in range(60):
+            others = [keep(other, D) for other in others]
+        self.refused(NoRule, done_by, SOURCES, ("both", *ones), (), "turn")
+        self.refused(NoRule, done_by, SOURCES, ("both", *others), (), "turn")
+        self.assertEqual(done_by(SOURCES, ("both", *others[::-1]), (), "turn"), ("both", *others))
+        self.assertEqual(done_by(SOURCES, both(*others[::-1], RAIN), (), "pass"), both(*others, RAIN))
+
     def test_each_step_answers_alike(self):
         done = {}
         for number in range(300):
