@@ -28,8 +28,8 @@ def settled(question, river, where):
     elif tree[0] == "fold" and tree[3][0] == "visit":
         row = _row_for_visit(question, river, where)
     else:
-        outlook = Outlook(flat_of(question), river, river.standing(), [])
-        row = _row_to_more(outlook, spots_for(question, outlook.flat, where))
+        flat = flat_of(question)
+        row = _row_to_more(flat, river, spots_for(question, flat, where))
     return ("final",) if row is None else ("may", row)
 
 
@@ -39,11 +39,10 @@ def open_spots(question, river):
     if not is_fold_of_windows(question):
         raise NoQuestion("this question is no fold of panes or slides")
     refuse_other_sources(question, river)
-    letters = river.standing()
-    flat = flat_of(question)
+    flat, letters = flat_of(question), river.standing()
     outlook = Outlook(flat, river, letters, None)
     stand = folded_rows(tree, answer_of(question, letters))
-    return sorted([where for where in stand if _may_have_more(outlook, spots_in_window(question, flat, where))])
+    return sorted([where for where in stand if outlook.has_more_at(spots_in_window(question, flat, where))])
 
 
 def is_fold_of_windows(question):
@@ -82,32 +81,20 @@ def refuse_no_spot(question, where):
         raise NoSpot("this is no spot of the question")
 
 
-def _outlook_of(question, river, tree):
-    """The outlook on a flat tree in a question, by what stands."""
-    return Outlook(Flat(question.sources(), tree), river, river.standing(), [])
-
-
-def _row_to_more(outlook, spots):
+def _row_to_more(flat, river, spots):
     """A shortest further row behind which one of the spots of a flat term has more, None where there is none."""
-    best = None
-    for moment, row in spots:
-        for choice in outlook.choices(moment, row):
-            if len(choice) > 0:
-                # Where all of them stand, one more of any of them is enough.
-                letters = outlook.lacked(choice) or [choice[0]]
-                if best is None or len(letters) < len(best):
-                    best = letters
-        if best is not None and len(best) == 1:
-            break
-    return None if best is None else [("letter", letter) for letter in best]
-
-
-def _may_have_more(outlook, spots):
-    """Whether one of the spots of a flat term has a way with an open letter."""
-    for moment, row in spots:
-        if any([len(choice) > 0 for choice in outlook.choices(moment, row)]):
-            return True
-    return False
+    most, standing = 0, river.standing()
+    if not Outlook(flat, river, standing, None).has_more_at(spots):
+        return None
+    while True:
+        # As long as none is short enough few choices are looked at.
+        most += 1
+        outlook = Outlook(flat, river, standing, [], most)
+        for moment, row in spots:
+            for choice in outlook.choices(moment, row):
+                if len(choice) > 0:
+                    # Where all of them stand, one more of any of them is enough.
+                    return [("letter", letter) for letter in outlook.lacked(choice) or choice[:1]]
 
 
 def spots_in_window(question, flat, where):
@@ -138,26 +125,26 @@ def _row_for_alone(question, river, where):
     if spot_of(question, river.standing(), where) == 0:
         return _row_to_unbarred(question, river, [where], bar)
     # More of the row is told as more, or as none beside a partner; a first partner alone leaves none.
-    more = _row_to_more(_outlook_of(question, river, tree[1]), [where])
+    more = _row_to_more(Flat(sources, tree[1]), river, [where])
     if more is not None:
         return more
-    outlook = _outlook_of(question, river, tree[2])
-    return _row_to_more(outlook, _spots_between(outlook.flat, others_places, bar[4], bar[1], bar[2]))
+    partners = Flat(sources, tree[2])
+    return _row_to_more(partners, river, _spots_between(partners, others_places, bar[4], bar[1], bar[2]))
 
 
 def _row_for_visit(question, river, where):
     _, part, keys, window, _ = question.tree()
     numbers, begin = where
     places = _places_of(question, keys)
-    outlook = _outlook_of(question, river, part)
+    flat = flat_of(question)
     told = spot_of(question, river.standing(), where)
     if told is None:
         bar = (part, begin - window[1], begin - 1, places, numbers)
-        spots = _spots_between(outlook.flat, places, numbers, begin, begin)
+        spots = _spots_between(flat, places, numbers, begin, begin)
         return _row_to_unbarred(question, river, spots, bar)
     # More rows in the visit, or no more than a gap behind it, count in it; ahead of it they end that it begins there.
     last = told[len(keys) + 1] - 1
-    return _row_to_more(outlook, _spots_between(outlook.flat, places, numbers, begin - window[1], last + window[1]))
+    return _row_to_more(flat, river, _spots_between(flat, places, numbers, begin - window[1], last + window[1]))
 
 
 def _row_to_unbarred(question, river, spots, bar):

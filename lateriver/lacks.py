@@ -76,10 +76,12 @@ def _spots_told(question, river, where):
 
 
 def _fewest_lacked(flat, river, spots):
-    """The fewest letters, of as few the least, behind which one of the spots stands, None where none can."""
+    """The fewest letters, of as few the least, behind which one of the spots stands, None where none can.
+
+    None of them stands, so that each way in which one can has an open letter.
+    """
     standing = river.standing()
-    outlook = Outlook(flat, river, standing, None)
-    if not any([len(outlook.choices(moment, row)) > 0 for moment, row in spots]):
+    if not Outlook(flat, river, standing, None).has_more_at(spots):
         return None
     most, lacked = 0, []
     # As long as none is enough few choices are looked at.

@@ -5,6 +5,9 @@ from lateriver.sources import rows_of
 from lateriver.terms import worth_of
 from lateriver.trees import columns_of, parts_of, sources_asked
 
+# So few pairs of choices are put together as they are, without looking at what they lack in common.
+FEW_PAIRS = 16
+
 
 class Flat:
     """A flat term: the rows that it can tell, and the rows of the terms in it that make each.
@@ -73,6 +76,13 @@ class Outlook:
             self._known[(moment, row)] = self._unlike(self._choices_at(moment, row))
         return list(self._known[(moment, row)])
 
+    def has_more_at(self, spots):
+        """Whether one of the spots has a choice with open letters."""
+        for moment, row in spots:
+            if any([len(choice) > 0 for choice in self.choices(moment, row)]):
+                return True
+        return False
+
     def lacked(self, choice):
         """The letters of a choice that don't stand."""
         return [letter for letter in choice if letter not in self._standing]
@@ -82,11 +92,32 @@ class Outlook:
             return self._choices_of_letter((self.flat.term[1], moment, row))
         found = []
         for spots in self.flat.made_of(moment, row):
-            together = [()]
-            for number, part_moment, part_row in spots:
-                beside = self.parts[number].choices(part_moment, part_row)
-                together = [put_together(one, other) for one in together for other in beside]
-            found.extend(together)
+            number, part_moment, part_row = spots[0]
+            choices = self.parts[number].choices(part_moment, part_row)
+            if len(spots) > 1 and len(choices) > 0:
+                number, part_moment, part_row = spots[1]
+                choices = self._all_put_together(choices, self.parts[number].choices(part_moment, part_row))
+            found.extend(choices)
+        return found
+
+    def _all_put_together(self, ones, others):
+        """Each two of these choices put together, but for such two as lack too many letters together."""
+        if self._most is None or len(ones) * len(others) < FEW_PAIRS:
+            return [put_together(one, other) for one in ones for other in others]
+        with_many = [(other, self.lacked(other)) for other in others]
+        by_letter = {}
+        for other, lacked in with_many:
+            for letter in lacked:
+                by_letter.setdefault(letter, []).append((other, lacked))
+        found = []
+        for one in ones:
+            lacked_by_one = self.lacked(one)
+            room = self._most - len(lacked_by_one)
+            found.extend([put_together(one, other) for other, lacked in with_many if len(lacked) <= room])
+            # Where there is no room for all that both lack, they must lack some letter in common.
+            for letter in lacked_by_one:
+                near = by_letter.get(letter, [])
+                found.extend([put_together(one, other) for other, lacked in near if len(lacked) > room])
         return found
 
     def _choices_of_letter(self, letter):

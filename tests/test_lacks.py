@@ -3,6 +3,7 @@
 import itertools
 
 from lateriver.errors import NoQuestion, NoSpot
+from lateriver.finals import settled
 from lateriver.lacks import falling, freed, lacking
 from lateriver.plain import answer_of, spot_of
 from lateriver.questions import Question
@@ -74,6 +75,28 @@ class LackingTest(LacksCase):
         three = ("join", tree, ("shape", RAIN, (("b", Y),)), (), 0, 0)
         self.lacks(three, river_of(), (5, (1, 2, 0, 4)), ("come", (("rain", 5, (0, 4)), A)))
         self.lacks(three, river_of(), (5, (1, 2, 1, 2)), ("come", (A,)))
+
+    def test_many_ways_with_letters_in_common(self):
+        sources = (("a", (("x", 1),)),)
+        parts = [("source", "a")] + [("shape", ("source", "a"), ((name, X),)) for name in ("p", "q", "r")]
+        for low, high in [(1, 6), (0, 5), (-4, -1)]:
+            halves = [("join", *parts[:2], (), low, high), ("join", *parts[2:], (), low, high)]
+            asked = Question(sources, ("join", *halves, (), -5, 5))
+            for where in [(9, (0, 1, 0, 1)), (9, (1, 1, 1, 1)), (9, (0, 0, 1, 0))]:
+                ways = [tuple(sorted(way)) for way in slow_ways(sources, asked.tree(), *where)]
+                for happenings in [[], [letter("a", 7, 1)], [letter("a", 9, 0), ("mark", "a", 6)], [letter("a", 5, 0), ("mark", "a", 8)]]:
+                    river = River(sources)
+                    for happening in happenings:
+                        river.take(happening)
+                    lacks = [[one for one in way if one not in river.standing()] for way in ways]
+                    lacks = [lack for lack in lacks if all(river.is_open(one) for one in lack)]
+                    fewest = min([(len(lack), tuple(lack)) for lack in lacks], default=None)
+                    told, row = self.told(lacking, asked, river, where), self.told(settled, asked, river, where)
+                    if fewest is None:
+                        self.assertEqual((told[0], row), ("never", ("final",)))
+                    else:
+                        self.assertEqual(told, ("come", fewest[1]))
+                        self.assertEqual(len(row[1]), fewest[0])
 
     def test_windows(self):
         tree = ("fold", RAIN, ("x",), ("pane", 5), ())
