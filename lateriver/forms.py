@@ -6,10 +6,13 @@ from lateriver.rules import become, done_at
 
 # A tree is gone through in two stages: first for what moves terms, then, where all stays, for what tidies and sorts.
 STAGES = (1, 2)
-# Rules that are done on the way down, by the stage and the word of the term, so that few copies are gone through.
+# Rules that are done on the way down, by the stage, the word of the term, and whether it will be a both: what goes
+# to each part of boths is put together, and tidied, before it does, so that each step is done once for all of them.
 DOWN = {
-    (1, "keep"): ("free", "merge", "downboth"), (1, "shape"): ("same", "upshape"), (1, "both"): ("row",),
-    (2, "keep"): ("free",),
+    (1, "keep", True): ("free", "merge", "downshape", "downalone", "downjoin", "tidy", "downboth"),
+    (1, "keep", False): ("free", "merge"), (1, "shape", True): ("same", "onshape", "upshape"),
+    (1, "shape", False): ("same",), (1, "both", True): ("row",),
+    (2, "keep", False): ("free",),
 }
 # Rules that are done where nothing is left to do in the terms within, so that little is put in columns' places.
 UP = {
@@ -58,7 +61,7 @@ def _gone_through(node, stage, steps):
     while node.gone_through < stage:
         node = way[-1]
         lower = _first_to_go(node, stage)
-        rule, made = _first_fitting(node, DOWN.get((stage, node.word), ()))
+        rule, made = _first_fitting(node, DOWN.get((stage, node.word, node.spreads), ()))
         if rule is None and lower is None:
             rule, made = _first_fitting(node, UP.get((stage, node.word), ()))
         if rule is not None:

@@ -15,6 +15,8 @@ class Node:
         self.names = names
         # What stands in the term behind the terms in it.
         self.rest = term[1 + len(parts):]
+        # Whether it will be a both where no rule fits any more.
+        self.spreads = _is_spread(self.word, parts)
         # How often it was gone through, all that fits being done.
         self.gone_through = 0
 
@@ -43,3 +45,10 @@ def with_part(node, number, part):
     parts = list(node.parts)
     parts[number] = part
     return made_of(node.word, parts, *node.rest)
+
+
+def _is_spread(word, parts):
+    """Whether boths in the terms within a term come to stand above it."""
+    if word == "join":
+        return parts[0].spreads or parts[1].spreads
+    return word == "both" or (word in ("keep", "shape", "alone") and parts[0].spreads)

@@ -166,9 +166,7 @@ class DeepTest(FormCase):
         for number in range(3000):
             parts.append([RAIN, SNOW][number % 2])
             mixed = ("both", mixed, parts[-1])
-        form = None
-        for part in sorted(parts, key=question_text)[::-1]:
-            form = part if form is None else ("both", part, form)
+        form = both_of_many(sorted(parts, key=question_text))
         self.assertEqual(question_text(plain_form(SOURCES, mixed)), question_text(form))
 
     def test_shapes_and_keeps_by_turns(self):
@@ -195,12 +193,18 @@ class DeepTest(FormCase):
             tree = RAIN
             for _ in range(700):
                 tree = keep(("both", tree, RAIN) if left else ("both", RAIN, tree), C)
-            kept = keep(RAIN, C)
-            form = kept
-            for _ in range(700):
-                form = ("both", kept, form)
-            steps = self.formed(tree, form)
+            steps = self.formed(tree, both_of_many([keep(RAIN, C)] * 701))
             self.assertLess(len(steps), 3500)
+
+    def test_shapes_of_boths(self):
+        turned = (("x", Y), ("y", X))
+        for left in (True, False):
+            tree = RAIN
+            for _ in range(1000):
+                tree = ("shape", ("both", tree, RAIN) if left else ("both", RAIN, tree), turned)
+            parts = [RAIN] * 501 + [("shape", RAIN, turned)] * 500
+            steps = self.formed(tree, both_of_many(sorted(parts, key=question_text)))
+            self.assertEqual(sorted({rule for _, rule in steps} - {"pass", "row", "turn"}), ["onshape", "same", "upshape"])
 
     def test_conditions(self):
         for word in ("any", "not"):
@@ -213,6 +217,13 @@ class DeepTest(FormCase):
         for _ in range(3000):
             condition = ("all", ("all", YES, C), condition)
         self.formed(keep(RAIN, condition), keep(RAIN, ("all", C, D)), 1)
+
+
+def both_of_many(trees):
+    together = trees[-1]
+    for tree in trees[-2::-1]:
+        together = ("both", tree, together)
+    return together
 
 
 def all_of_many(conditions):

@@ -79,9 +79,9 @@ class LackingTest(LacksCase):
     def test_many_ways_with_letters_in_common(self):
         sources = (("a", (("x", 1),)),)
         parts = [("source", "a")] + [("shape", ("source", "a"), ((name, X),)) for name in ("p", "q", "r")]
-        for low, high in [(1, 6), (0, 5), (-4, -1)]:
+        for low, high, between in [(1, 6, (-5, 5)), (0, 5, (-5, 5)), (-4, -1, (-5, 5)), (0, 4, (5, 7))]:
             halves = [("join", *parts[:2], (), low, high), ("join", *parts[2:], (), low, high)]
-            asked = Question(sources, ("join", *halves, (), -5, 5))
+            asked = Question(sources, ("join", *halves, (), *between))
             for where in [(9, (0, 1, 0, 1)), (9, (1, 1, 1, 1)), (9, (0, 0, 1, 0))]:
                 ways = [tuple(sorted(way)) for way in slow_ways(sources, asked.tree(), *where)]
                 for happenings in [[], [letter("a", 7, 1)], [letter("a", 9, 0), ("mark", "a", 6)], [letter("a", 5, 0), ("mark", "a", 8)]]:
