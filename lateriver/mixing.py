@@ -10,8 +10,8 @@ from lateriver.rivers import River
 from lateriver.sources import fields_of
 from lateriver.trees import columns_of, parts_of, terms_of
 
-# In a part's place: letters of more than one part.
-MIXED = -1
+# In a part's place, of letters of more than one part: no part has this number.
+MIXED = 6
 
 
 def places_of(sources, key):
